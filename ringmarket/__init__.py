@@ -1,0 +1,1 @@
+"""Trade: owners trade goods by deals of several at once."""
