@@ -4,9 +4,9 @@ Each looks for its refusals before it changes anything, the one nearest to 0 fir
 """
 
 from ringmarket.refusals import NoPlace, NoSuchDeal, NotSo, OutOfRange
-from ringmarket.settling import settle
-from ringmarket.state import WAITS
-from ringmarket.texts import read_legs, read_market
+from ringmarket.settling import all_waits, lacks_nothing, lacks_of, settle
+from ringmarket.state import HELD, WAITS
+from ringmarket.texts import read_legs, read_market, row_of, text_of_leg, wrong_line_of_legs
 
 MOST_MADE = 1000000000
 MOST_DEALS = 16
@@ -29,6 +29,11 @@ def check_amount(market, owner, good, amount):
     check_owner(market, owner)
     check_range(good, 0, len(market.goods) - 1)
     check_range(amount, 1, MOST_MADE)
+
+
+def check_free(market, owner, good, amount):
+    if market.free[owner][good] < amount:
+        raise NotSo()
 
 
 def check_deal(market, number):
@@ -60,8 +65,8 @@ def answer_burn(market, numbers, text):
     good = numbers[1]
     amount = numbers[2]
     check_amount(market, owner, good, amount)
-    if market.free[owner][good] < amount:
-        raise NotSo()
+    check_free(market, owner, good, amount)
+    market.burned[good] += amount
     market.free[owner][good] -= amount
     return [0] + settle(market)
 
@@ -112,10 +117,15 @@ def left_by_exchange(market, legs):
     return left
 
 
+def can_be_made(left):
+    """Whether an exchange that leaves so much can be made."""
+    return all([min(amounts) >= 0 for amounts in left])
+
+
 def answer_swap(market, numbers, text):
     legs = read_legs(text, market.owners, market.goods)
     left = left_by_exchange(market, legs)
-    if any([min(amounts) < 0 for amounts in left]):
+    if not can_be_made(left):
         raise NotSo()
     market.free = left
     return [0] + settle(market)
@@ -153,6 +163,89 @@ def answer_account(market, numbers, text):
     return answer
 
 
+def answer_deals(market, numbers, text):
+    answer = [0]
+    for deal in market.deals.values():
+        standings = [standing for owner, standing in market.parts_of(deal.number)]
+        answer.extend([deal.number, deal.last_tick, len(deal.gives), len(standings), standings.count(HELD)])
+    return answer
+
+
+def answer_parts(market, numbers, text):
+    check_deal(market, numbers[0])
+    answer = [0]
+    for owner, standing in market.parts_of(numbers[0]):
+        answer.extend([owner, 1 if standing == HELD else 0])
+    return answer
+
+
+def answer_legs(market, numbers, text):
+    check_deal(market, numbers[0])
+    legs = market.deals[numbers[0]].legs
+    return [0] + row_of([text_of_leg(leg, market.owners, market.goods) for leg in legs])
+
+
+def answer_waits(market, numbers, text):
+    answer = [0]
+    for number, others in all_waits(market).items():
+        for other in others:
+            answer.extend([number, other])
+    return answer
+
+
+def answer_books(market, numbers, text):
+    answer = [0]
+    for good in range(len(market.goods)):
+        free = sum([amounts[good] for amounts in market.free])
+        held = sum([amounts[good] for amounts in market.held])
+        answer.extend([market.made[good], market.burned[good], free, held])
+    return answer
+
+
+def answer_could(market, numbers, text):
+    check_deal(market, numbers[0])
+    deal = market.deals[numbers[0]]
+    return [0, 1 if all([lacks_nothing(market, deal, owner) for owner in deal.gives]) else 0]
+
+
+def answer_read(market, numbers, text):
+    wrong = wrong_line_of_legs(text, market.owners, market.goods)
+    if wrong is not None:
+        return [0, 0, wrong]
+    legs = read_legs(text, market.owners, market.goods)
+    could = 1 if can_be_made(left_by_exchange(market, legs)) else 0
+    return [0, 1, len(legs), len(market.gives_of(legs)), could]
+
+
+def answer_move(market, numbers, text):
+    giver = numbers[0]
+    taker = numbers[1]
+    good = numbers[2]
+    amount = numbers[3]
+    check_amount(market, giver, good, amount)
+    check_owner(market, taker)
+    check_free(market, giver, good, amount)
+    market.free[giver][good] -= amount
+    market.free[taker][good] += amount
+    return [0] + settle(market)
+
+
+def answer_names(market, numbers, text):
+    # The one more byte 10 between them is the end of an empty line.
+    return [0] + row_of(market.owners + [""] + market.goods)
+
+
+def answer_lacks(market, numbers, text):
+    number = numbers[0]
+    owner = numbers[1]
+    check_owner(market, owner)
+    check_deal(market, number)
+    deal = market.deals[number]
+    if owner not in deal.gives:
+        raise NotSo()
+    return [0] + lacks_of(market, deal, owner)
+
+
 # By a call's number: what answers it, how many whole numbers it has, how many texts.
 CALLS = (
     (answer_market, 0, 1),
@@ -165,4 +258,14 @@ CALLS = (
     (answer_swap, 0, 1),
     (answer_tick, 1, 0),
     (answer_account, 1, 0),
+    (answer_deals, 0, 0),
+    (answer_parts, 1, 0),
+    (answer_legs, 1, 0),
+    (answer_waits, 0, 0),
+    (answer_books, 0, 0),
+    (answer_could, 1, 0),
+    (answer_read, 0, 1),
+    (answer_move, 4, 0),
+    (answer_names, 0, 0),
+    (answer_lacks, 2, 0),
 )

@@ -6,16 +6,22 @@ DONE = 1
 CALLED_OFF_FOR_RING = 2
 
 
-def lacked_goods(market, deal, owner):
-    """The goods of which the owner gives more in the deal than they have free."""
-    free = market.free[owner]
-    return [good for good, amount in enumerate(deal.gives[owner]) if amount > free[good]]
+def lacks_of(market, deal, owner):
+    """For each good how much the owner lacks to give all that they give in the deal."""
+    gives = deal.gives[owner]
+    if market.parts.get((deal.number, owner)) == HELD:
+        return [0 for amount in gives]
+    return [max(amount - free, 0) for amount, free in zip(gives, market.free[owner])]
+
+
+def lacks_nothing(market, deal, owner):
+    return max(lacks_of(market, deal, owner)) == 0
 
 
 def first_to_hold(market):
     """Deal's number and owner of the part that's held next, or None."""
     for part, standing in market.parts.items():
-        if standing == WAITS and len(lacked_goods(market, market.deals[part[0]], part[1])) == 0:
+        if standing == WAITS and lacks_nothing(market, market.deals[part[0]], part[1]):
             return part
     return None
 
@@ -44,7 +50,8 @@ def waits_by(market, deal, other, owner):
         return False
     if market.parts.get((other.number, owner)) != HELD:
         return False
-    return any([other.gives[owner][good] > 0 for good in lacked_goods(market, deal, owner)])
+    lacks = lacks_of(market, deal, owner)
+    return any([lack > 0 and amount > 0 for lack, amount in zip(lacks, other.gives[owner])])
 
 
 def waits_for(market, deal, other):

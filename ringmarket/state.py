@@ -28,6 +28,7 @@ class Market:
         self.free = self.nothing()
         self.held = self.nothing()
         self.made = [0 for name in goods]
+        self.burned = [0 for name in goods]
         self.tick = 0
         self.next_number = 1
         # A new deal has the greatest number, so a dict walks the deals by their numbers.
@@ -49,6 +50,10 @@ class Market:
                     gives[owner] = [0 for name in self.goods]
             gives[giver][good] += amount
         return gives
+
+    def parts_of(self, number):
+        """Owner and WAITS or HELD of each part in the deal, in the order in which they agreed."""
+        return [(part[1], standing) for part, standing in self.parts.items() if part[0] == number]
 
     def add_deal(self, legs, ticks):
         """Put a new deal there and give it back."""

@@ -1,4 +1,4 @@
-"""Reading a market's text and legs' text, both given as rows of bytes."""
+"""A market's text and legs' text, both rows of bytes: reading them, and writing legs."""
 
 from ringmarket.refusals import WrongText
 
@@ -29,14 +29,9 @@ def words_of(line):
     return [word for word in line.split(" ") if word != ""]
 
 
-def lines_of(row):
-    """The words of each line."""
-    text = "".join([sign_of(byte) for byte in row])
-    if text == "":
-        return []
-    if not text.endswith("\n"):
-        raise WrongText()
-    return [words_of(line) for line in text[:-1].split("\n")]
+def pieces_of(row):
+    """The lines without their ends, and behind them what isn't ended: in a right text, nothing."""
+    return "".join([sign_of(byte) for byte in row]).split("\n")
 
 
 def is_name(word):
@@ -68,8 +63,11 @@ def read_market(row):
     """The owners' names and the goods' names."""
     owners = []
     goods = []
-    for words in lines_of(row):
-        add_name(words, owners, goods)
+    pieces = pieces_of(row)
+    if pieces[-1] != "":
+        raise WrongText()
+    for line in pieces[:-1]:
+        add_name(words_of(line), owners, goods)
     return (owners, goods)
 
 
@@ -81,15 +79,36 @@ def is_leg(words, owners, goods):
     return is_amount(words[2]) and words[3] in goods
 
 
-def read_leg(words, owners, goods):
-    if not is_leg(words, owners, goods):
-        raise WrongText()
+def wrong_line_of_legs(row, owners, goods):
+    """The number of the line that tells what's wrong with legs' text, or None if it's right."""
+    pieces = pieces_of(row)
+    if pieces[-1] != "":
+        return len(pieces)
+    lines = pieces[:-1]
+    if len(lines) == 0:
+        return 1
+    if len(lines) > MOST_LEGS:
+        return MOST_LEGS + 1
+    wrong = [number for number, line in enumerate(lines, start=1) if not is_leg(words_of(line), owners, goods)]
+    return min(wrong, default=None)
+
+
+def leg_of(words, owners, goods):
+    """A right leg as giver, amount, good and taker; owners and goods by their numbers."""
     return (owners.index(words[0]), int(words[2]), goods.index(words[3]), owners.index(words[5]))
 
 
 def read_legs(row, owners, goods):
-    """The legs, each as giver, amount, good and taker; owners and goods by their numbers."""
-    lines = lines_of(row)
-    if not 1 <= len(lines) <= MOST_LEGS:
+    if wrong_line_of_legs(row, owners, goods) is not None:
         raise WrongText()
-    return [read_leg(words, owners, goods) for words in lines]
+    return [leg_of(words_of(line), owners, goods) for line in pieces_of(row)[:-1]]
+
+
+def text_of_leg(leg, owners, goods):
+    """The one text of a leg."""
+    return " ".join([owners[leg[0]], "gives", str(leg[1]), goods[leg[2]], "to", owners[leg[3]]])
+
+
+def row_of(lines):
+    """The bytes of these lines, each with its end behind."""
+    return [ord(sign) for sign in "".join([line + "\n" for line in lines])]

@@ -3,17 +3,8 @@
 from ringmarket.answering import answer_tick
 from ringmarket.refusals import NoPlace, OutOfRange
 from ringmarket.state import Market
-from tests.helper import (ABC, BIG, BILLION, Case, account, agree, burn, cancel, deal, last, make, market, run, swap,
-                          tick, withdraw)
-
-# Two deals; a's part in the first one is held, b's part there waits.
-TWO = "a gives 5 x to b\nb gives 7 y to a\n"
-THREE = "b gives 3 y to c\nc gives 2 x to a\n"
-STARTED = [ABC, make(0, 0, 8), make(1, 1, 6), make(2, 0, 1), tick(2), deal(4, TWO), deal(9, THREE),
-           agree(1, 0), agree(1, 1)]
-LEG = "a gives 1 x to b\n"
-SIXTEEN = [ABC, make(0, 0, 8)] + [deal(1000, LEG)] * 16
-OUTSIDE = (-BIG, -2, -1, 3, 4, BIG)
+from tests.helper import (ABC, BIG, BILLION, LEG, NO_DEALS, OUTSIDE, SIXTEEN, STARTED, THREE, TWO, Case, account,
+                          agree, burn, cancel, deal, last, make, market, run, swap, tick, withdraw)
 
 
 class Beginning(Case):
@@ -203,7 +194,7 @@ class Agree(Case):
             self.refused(STARTED, agree(2, owner), -1)
 
     def test_no_such_deal(self):
-        for number in (-BIG, -1, 0, 3, BIG):
+        for number in NO_DEALS:
             self.refused(STARTED, agree(number, 0), -3)
         self.refused(STARTED + [cancel(2)], agree(2, 1), -3)
         self.refused(STARTED + [make(1, 1, 1)], agree(1, 0), -3)
@@ -247,7 +238,7 @@ class Withdraw(Case):
             self.refused(STARTED, withdraw(1, owner), -1)
 
     def test_no_such_deal(self):
-        for number in (-BIG, -1, 0, 3, BIG):
+        for number in NO_DEALS:
             self.refused(STARTED, withdraw(number, 0), -3)
         self.refused(STARTED + [cancel(1)], withdraw(1, 0), -3)
 
@@ -272,7 +263,7 @@ class Cancel(Case):
         self.assertEqual(last(*calls, cancel(1)), [0, 1, 2])
 
     def test_no_such_deal(self):
-        for number in (-BIG, -1, 0, 3, BIG):
+        for number in NO_DEALS:
             self.refused(STARTED, cancel(number), -3)
         self.refused(STARTED + [cancel(2)], cancel(2), -3)
         self.refused(STARTED + [make(1, 1, 1)], cancel(1), -3)

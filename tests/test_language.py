@@ -26,6 +26,11 @@ NamedTuple TypedDict TYPE_CHECKING abstractmethod""".split()
 PARTS_OF_WORDS = ("dataclass", "overload", "contextmanager")
 DUNDER_METHODS = ("__init__", "__eq__", "__repr__", "__str__", "__len__")
 
+KEYWORDS = {"sorted": ("key", "reverse"), "min": ("key", "default"), "max": ("key", "default"), "sum": ("start",),
+            "enumerate": ("start",), "zip": ("strict",)}
+TAKE_A_ROW = "list tuple dict sorted sum any all enumerate zip min max".split()
+CHANGE = "append clear extend insert pop remove reverse setdefault update".split()
+
 STATEMENTS = (ast.Assign, ast.AugAssign, ast.If, ast.While, ast.For, ast.Return, ast.Break, ast.Continue, ast.Pass,
               ast.Raise, ast.Try, ast.Expr, ast.FunctionDef, ast.ClassDef, ast.ImportFrom)
 NOT_EXPRESSIONS = (ast.SetComp, ast.DictComp, ast.GeneratorExp, ast.NamedExpr, ast.Starred, ast.Await, ast.Yield,
@@ -193,7 +198,74 @@ def attributes(source, tree):
                 yield "L25"
 
 
-LOOKS = (signs, top, imports, statements, functions, expressions, names, attributes)
+def sets_and_texts(source, tree):
+    """This program needs no set at all, so that none is looked at more closely."""
+    for node in ast.walk(tree):
+        if isinstance(node, ast.Set) or (isinstance(node, ast.Name) and node.id in ("set", "frozenset")):
+            yield "L24"
+        if isinstance(node, ast.FormattedValue) and (not isinstance(node.value, ast.Name) or node.format_spec):
+            yield "L7"
+
+
+def keywords(source, tree):
+    for node in ast.walk(tree):
+        if isinstance(node, ast.Call):
+            named = getattr(node.func, "id", getattr(node.func, "attr", ""))
+            if hasattr(builtins, named) or named in METHODS:
+                if any([word.arg not in KEYWORDS.get(named, ()) for word in node.keywords]):
+                    yield "L22"
+
+
+def not_called(source, tree):
+    """Python's own functions are called where they stand, not kept."""
+    called = [node.func for node in ast.walk(tree) if isinstance(node, ast.Call)]
+    keys = [node.value for node in ast.walk(tree) if isinstance(node, ast.keyword) and node.arg == "key"]
+    asked = [node for node in ast.walk(tree) if isinstance(node, ast.Call)
+             and getattr(node.func, "id", "") == "isinstance"]
+    kinds = [kind for node in asked for kind in ast.walk(node.args[1])]
+    for node in ast.walk(tree):
+        if isinstance(node, ast.Name) and node.id in PLAIN and node not in called + keys + kinds:
+            yield "L22"
+        if isinstance(node, ast.Attribute) and node.attr in METHODS and node not in called + keys:
+            if node.attr not in ALLOWED_VALUES:
+                yield "L25"
+
+
+def walked(source, tree):
+    """What's walked on the spot: a loop's row, or the first thing in one of Python's own that takes a row."""
+    spots = [node.iter for node in ast.walk(tree) if isinstance(node, (ast.For, ast.comprehension))]
+    for node in ast.walk(tree):
+        if isinstance(node, ast.Call) and getattr(node.func, "id", "") in TAKE_A_ROW:
+            spots.extend(node.args if node.func.id == "zip" else node.args[:1])
+        if isinstance(node, ast.Call) and getattr(node.func, "attr", "") == "join":
+            spots.extend(node.args)
+    for node in ast.walk(tree):
+        if isinstance(node, ast.Call) and node not in spots:
+            if getattr(node.func, "id", "") in ("zip", "enumerate", "reversed", "range"):
+                yield "L23"
+            if getattr(node.func, "attr", "") in ("items", "keys", "values"):
+                yield "L23"
+
+
+def walked_and_changed(source, tree):
+    """A loop's own row isn't changed in it, as far as it's written in the same words."""
+    for loop in ast.walk(tree):
+        if isinstance(loop, ast.For):
+            row = loop.iter
+            if isinstance(row, ast.Call) and isinstance(row.func, ast.Attribute) and not row.args:
+                row = row.func.value
+            elif isinstance(row, ast.Call) and getattr(row.func, "id", "") in ("enumerate", "zip", "reversed"):
+                row = row.args[0]
+            row = ast.dump(row).replace("Store()", "Load()")
+            for node in ast.walk(loop):
+                if isinstance(node, ast.Attribute) and node.attr in CHANGE and ast.dump(node.value) == row:
+                    yield "L23"
+                if isinstance(node, ast.Subscript) and isinstance(node.ctx, ast.Store) and ast.dump(node.value) == row:
+                    yield "L23"
+
+
+LOOKS = (sets_and_texts, keywords, not_called, walked, walked_and_changed, signs, top, imports, statements, functions,
+         expressions, names, attributes)
 
 
 def broken(source):
@@ -211,7 +283,8 @@ BREAKS = {
     "L6": ["def f():\n    global x\n", "def f(x):\n    assert x\n", "def f():\n    a = b = 1\n",
            "def f(x):\n    while x:\n        pass\n    else:\n        pass\n", "def f(d):\n    del d[0]\n"],
     "L7": ["def f(x):\n    return x / 2\n", "x = 1.5\n", "def f(x):\n    return {y for y in x}\n",
-           "def f(x):\n    return all(y for y in x)\n", "def f(x):\n    return g(*x)\n", "x = b'a'\n"],
+           "def f(x):\n    return all(y for y in x)\n", "def f(x):\n    return g(*x)\n", "x = b'a'\n",
+           "def f(x):\n    return f'{x + 1}'\n", "def f(x):\n    return f'{x:3}'\n"],
     "L8": ["def f(x):\n    return hash(x)\n", "def f(x):\n    return chr(x)\n", "def f(x):\n    print(x)\n"],
     "L10": ["def f():\n" + "    g()\n" * 40, "x = 1\n" + "\n" * 400, "x = '" + "a" * 120 + "'\n"],
     "L12": ["def f():\n    _x = 1\n    return _x\n", "def _f():\n    pass\n", "def f(x):\n    return x._y\n"],
@@ -225,7 +298,16 @@ BREAKS = {
             "def f():\n    try:\n        g()\n    except:\n        pass\n"],
     "L20": ["def f(x, y):\n    return x is y\n"],
     "L21": ["def f(x: int):\n    return x\n", "def f(x) -> int:\n    return x\n"],
-    "L25": ["def f(x):\n    return x.sort()\n", "def f(x):\n    return x.encode()\n"],
+    "L22": ["def f(x):\n    return int(x, base=2)\n", "def f(x):\n    return x.split(sep=' ')\n",
+            "def f():\n    size = len\n    return size\n", "def f(x):\n    return g(sum, x)\n"],
+    "L23": ["def f(x):\n    rows = x.items()\n    return rows\n", "def f(x):\n    return zip(x, x)\n",
+            "def f(x):\n    return 1 in range(x)\n", "def f(x):\n    for y in x:\n        x.append(y)\n",
+            "def f(x):\n    for k, y in x.items():\n        x[k] = y\n",
+            "def f(x):\n    for k, y in enumerate(x):\n        x.pop()\n",
+            "def f(x):\n    for y in x.parts:\n        x.parts.pop(y)\n"],
+    "L24": ["def f(x):\n    return set(x)\n", "def f(x):\n    return {x}\n"],
+    "L25": ["def f(x):\n    return x.sort()\n", "def f(x):\n    return x.encode()\n",
+            "def f(x):\n    add = x.append\n    return add\n"],
     "L26": ["def f(x):\n    x.items = 1\n", "def f(x):\n    x.sort = 1\n"],
     "L27": ["def f(n):\n    return 2 ** n\n", "x = '%'\n"],
 }

@@ -1,6 +1,7 @@
 """To settle: parts that wait, deals done, rings, deadlines, and what happened in its order."""
 
-from tests.helper import ABC, Case, agree, burn, cancel, deal, last, legs, make, market, run, swap, tick, withdraw
+from tests.helper import (ABC, NEARLY, Case, agree, burn, cancel, deal, last, legs, make, market, run, swap, tick,
+                          withdraw)
 
 A_TO_B = "a gives 5 x to b\n"
 A_TO_C = "a gives 5 x to c\n"
@@ -190,10 +191,6 @@ class Rings(Case):
         self.assertEqual(self.line(*calls)[-1], [0])
         self.assertEqual(run(*calls, cancel(1), cancel(2))[-2:], [[0], [0]])
 
-
-# a holds 3 of 5 x for deal 2, and waits in deal 1 for y alone: of x just enough is free.
-NEARLY = [ABC, make(0, 0, 5), make(1, 1, 3), deal(9, "a gives 2 x to b\na gives 5 y to b\nb gives 3 y to a\n"),
-          deal(9, "a gives 3 x to b\nb gives 3 y to a\n"), agree(2, 0), agree(1, 1), agree(2, 1), agree(1, 0)]
 
 # For deal 3 a holds the x for which their parts in 1 and 2 wait; for 2 b holds the y for which theirs in 1 waits.
 BEHIND_THREE = [ABC, make(0, 0, 5), make(1, 1, 5), deal(9, X_FOR_Y), deal(9, X_FOR_Y), deal(0, A_TO_C), agree(3, 0),
